@@ -9,11 +9,12 @@ import (
 	"jacquard/operator"
 )
 
-// Editor performs steps on a function of its own. Steps has those that were performed; Known has the facts that axioms may use.
+// Editor performs steps on a function of its own. Known has the facts that axioms may use, Steps the steps of the round, rounds the rounds before it.
 type Editor struct {
-	F     api.Func
-	Known []api.Fact
-	Steps []Step
+	F      api.Func
+	Known  []api.Fact
+	Steps  []Step
+	rounds []Round
 	// For each value, the block that defines it (-1: none), and the index of the instruction, or -1 - p for parameter p.
 	owner, place []int
 	axioms       map[int]axiom
@@ -24,6 +25,78 @@ func Edit(f api.Func, known []api.Fact) *Editor {
 	x := &Editor{F: ir.Clone(f), Known: known, axioms: axioms()}
 	x.locate()
 	return x
+}
+
+// Begin begins a round, with facts of the function as it is now.
+func (x *Editor) Begin(known []api.Fact) {
+	if len(x.Steps) > 0 {
+		x.rounds = append(x.rounds, Round{Facts: x.Known, Steps: x.Steps})
+	}
+	x.Known, x.Steps = known, nil
+}
+
+// Witness ends the round, and returns the witness of all steps.
+func (x *Editor) Witness() Witness {
+	x.Begin(nil)
+	return Witness{Rounds: x.rounds}
+}
+
+// Count returns the number of all steps.
+func (x *Editor) Count() int {
+	n := len(x.Steps)
+	for _, r := range x.rounds {
+		n += len(r.Steps)
+	}
+	return n
+}
+
+// Used reports which values are used in a block.
+func (x *Editor) Used(block int) map[int]bool {
+	used := map[int]bool{}
+	note := func(list ...int) {
+		for _, v := range list {
+			used[v] = true
+		}
+	}
+	b := &x.F.Blocks[block]
+	for i := range b.Insts {
+		note(b.Insts[i].Args...)
+	}
+	if b.Term.Cond >= 0 {
+		note(b.Term.Cond)
+	}
+	for _, e := range b.Term.To {
+		note(e.Args...)
+	}
+	note(b.Term.Rets...)
+	return used
+}
+
+// Values returns the values of a block in their order: the parameters, then the results of the instructions.
+func (x *Editor) Values(block int) []int {
+	list := slices.Clone(x.F.Blocks[block].Params)
+	for i := range x.F.Blocks[block].Insts {
+		if v := x.F.Blocks[block].Insts[i].Dest; v >= 0 {
+			list = append(list, v)
+		}
+	}
+	return list
+}
+
+// Insert inserts an instruction with a result, and returns that; false if that is not possible.
+func (x *Editor) Insert(block, at int, in api.Inst, width int) (int, bool) {
+	in.Dest = len(x.F.Widths)
+	return in.Dest, x.Do(Step{Kind: api.StepInsert, Block: block, At: at, Inst: in, Width: width})
+}
+
+// Redirect uses a value in place of another one.
+func (x *Editor) Redirect(block, value, with, axiom int) bool {
+	return x.Do(Step{Kind: api.StepRedirect, Block: block, Value: value, With: with, Axiom: axiom})
+}
+
+// TooLarge reports whether passes leave a function as it is because of its size.
+func TooLarge(f api.Func) bool {
+	return len(f.Widths) > 4096 || slices.ContainsFunc(f.Blocks, func(b api.Block) bool { return len(b.Insts) > 256 })
 }
 
 // locate finds where all values are defined.
