@@ -464,3 +464,27 @@ func (x *Editor) cut(block int) {
 	}
 	x.locate()
 }
+
+// Sweep removes the definition of a value that is not used, and then those of its operands.
+func (x *Editor) Sweep(block, v int) {
+	i := x.At(block, v)
+	if i < 0 || !ir.Pure(x.F.Blocks[block].Insts[i].Op) {
+		return
+	}
+	args := slices.Clone(x.F.Blocks[block].Insts[i].Args)
+	if x.Do(Step{Kind: api.StepRemove, Block: block, At: i}) {
+		for _, a := range args {
+			x.Sweep(block, a)
+		}
+	}
+}
+
+// Copy returns an editor that goes on from here on its own.
+func (x *Editor) Copy() *Editor {
+	y := *x
+	y.F = ir.Clone(x.F)
+	y.Steps = slices.Clone(x.Steps)
+	y.rounds = slices.Clone(x.rounds)
+	y.owner, y.place = slices.Clone(x.owner), slices.Clone(x.place)
+	return &y
+}
