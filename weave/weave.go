@@ -34,6 +34,24 @@ func (l *Loom) Emit(op, width int, args ...int) int {
 	return l.emit(api.Inst{Op: op, Args: args}, width)
 }
 
+// Const appends a constant.
+func (l *Loom) Const(width int, n uint64) int {
+	return l.emit(api.Inst{Op: api.OpConst, Num: n}, width)
+}
+
+// Put appends an instruction as it is.
+func (l *Loom) Put(in api.Inst) { l.append(in) }
+
+// Access appends a load with a new value, or a store.
+func (l *Loom) Access(in api.Inst, width int) int {
+	if in.Op == api.OpStore {
+		in.Dest = -1
+		l.append(in)
+		return -1
+	}
+	return l.emit(in, width)
+}
+
 func (l *Loom) emit(in api.Inst, width int) int {
 	in.Dest = len(l.F.Widths)
 	l.F.Widths = append(l.F.Widths, width)
@@ -42,7 +60,7 @@ func (l *Loom) emit(in api.Inst, width int) int {
 }
 
 // One returns a constant 1 of width 1.
-func (l *Loom) One() int { return l.emit(api.Inst{Op: api.OpConst, Num: 1}, 1) }
+func (l *Loom) One() int { return l.Const(1, 1) }
 
 // Not returns the inverse of a value of width 1.
 func (l *Loom) Not(v int) int { return l.Emit(api.OpXor, 1, v, l.One()) }
