@@ -75,6 +75,15 @@ func TestOrder(t *testing.T) {
 			}
 		}
 	}
+	// A register behind the operator that reads it comes before that.
+	b := &Builder{}
+	reg := b.Wire(1)
+	b.N.Freeze = b.Not(reg)
+	b.N.Done = reg
+	b.Cell(api.Cell{Kind: api.CellReg, Out: reg, Args: []int{reg, reg}})
+	if o, e := Order(b.N); e != api.OK || slices.Index(o, 2) > slices.Index(o, 1) {
+		t.Error(o, e)
+	}
 	if l := Cone(n, n.Cells[5].Out); !slices.Equal(l, []int{0, 1, 2, 3, 4, 5}) {
 		t.Error(l)
 	}
