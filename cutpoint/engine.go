@@ -153,7 +153,7 @@ func (e *Engine) Run(p api.CutPoint, way *api.Way) (m *Moment, ok bool) {
 		if way.Truth {
 			word = 1
 		}
-		m = e.moment(p, table, []api.Assume{{Term: c, Word: word}})
+		m = e.assumed(p, table, way.Cond, api.Assume{Term: c, Word: word})
 	} else {
 		m = e.moment(p, table, nil)
 	}
@@ -161,6 +161,22 @@ func (e *Engine) Run(p api.CutPoint, way *api.Way) (m *Moment, ok bool) {
 		return nil, false
 	}
 	return m, true
+}
+
+// maxAssumptions limits how often a condition is assumed anew.
+const maxAssumptions = 16
+
+// assumed returns the terms of the values at a point where a condition is a word. If another value on the way to the condition is the same term, the condition becomes a different one by the assumption; then that one is the word, too.
+func (e *Engine) assumed(p api.CutPoint, table *term.Table, cond int, a api.Assume) *Moment {
+	list := []api.Assume{a}
+	for {
+		m := e.moment(p, table, list)
+		c := m.E(cond, 0)
+		if _, known := table.Word(c); known || m.failed || len(list) == maxAssumptions {
+			return m
+		}
+		list = append(list, api.Assume{Term: c, Word: a.Word})
+	}
 }
 
 // moment returns the terms of the values at a point.
