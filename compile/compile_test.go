@@ -113,6 +113,27 @@ func TestExample(t *testing.T) {
 	}
 }
 
+// A condition may have operands that are the same as the condition, or never be true although terms do not tell.
+func TestConditionsThatAreHardToProve(t *testing.T) {
+	for _, s := range []string{
+		"kernel k(a: u1, b: u1) -> u8 { var x: u8 = 3; let t: u1 = a & b; let c: u1 = t & a; if c { x = x + 4; } return x; }",
+		"kernel k(a: u1, o: out u8) -> u8 { let c: u1 = a & ((a ^ 1) + (a << a)); if c { send o(5); } return a as u8; }",
+		"kernel k(p: u1, o: out u8) -> u8 { let v: u1 = (((1 | p) ? (p - p) : p) ? (p >> ~p) : ((p << 1) & (0 || p))); if p & v { send o(7); } return 1; }",
+		"kernel k(n: u8, a: u1) -> u8 { var x: u8 = n; let t: u1 = a & (a | (a << a)); while x != 0 && (t & (t ? a : 0)) { x = x - 1; } return x; }",
+	} {
+		for _, passes := range []int{0, api.PassAll, api.PassIfConvert, api.PassAll &^ api.PassIfConvert} {
+			o := options()
+			o.Passes = passes
+			d, line, e := Compile(s, o)
+			if e != api.OK || Check(d) != api.OK {
+				t.Error(s, passes, line, e, Check(d))
+				continue
+			}
+			run(t, s, d, 1)
+		}
+	}
+}
+
 func TestLoops(t *testing.T) {
 	for i, c := range []struct {
 		s      string

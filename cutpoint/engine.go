@@ -154,6 +154,9 @@ func (e *Engine) Run(p api.CutPoint, way *api.Way) (m *Moment, ok bool) {
 			word = 1
 		}
 		m = e.assumed(p, table, way.Cond, api.Assume{Term: c, Word: word})
+		if m == nil {
+			return nil, true
+		}
 	} else {
 		m = e.moment(p, table, nil)
 	}
@@ -166,13 +169,17 @@ func (e *Engine) Run(p api.CutPoint, way *api.Way) (m *Moment, ok bool) {
 // maxAssumptions limits how often a condition is assumed anew.
 const maxAssumptions = 16
 
-// assumed returns the terms of the values at a point where a condition is a word. If another value on the way to the condition is the same term, the condition becomes a different one by the assumption; then that one is the word, too.
+// assumed returns the terms of the values at a point where a condition is a word, nil if it cannot be that word. If another value on the way to the condition is the same term, the condition becomes a different one by the assumption; then that one is the word, too.
 func (e *Engine) assumed(p api.CutPoint, table *term.Table, cond int, a api.Assume) *Moment {
 	list := []api.Assume{a}
 	for {
 		m := e.moment(p, table, list)
 		c := m.E(cond, 0)
-		if _, known := table.Word(c); known || m.failed || len(list) == maxAssumptions {
+		n, known := table.Word(c)
+		if known && n != a.Word && !m.failed {
+			return nil
+		}
+		if known || m.failed || len(list) == maxAssumptions {
 			return m
 		}
 		list = append(list, api.Assume{Term: c, Word: a.Word})
