@@ -1,6 +1,8 @@
 package cutpoint
 
 import (
+	"slices"
+
 	"jacquard/api"
 	"jacquard/cycles"
 	"jacquard/ir"
@@ -215,24 +217,23 @@ func (e *Engine) moment(p api.CutPoint, table *term.Table, assume []api.Assume) 
 	return m
 }
 
-// stage computes the terms of the values in a stage.
+// stage computes the terms of the values in a stage, but for those that are computed later: they are joined with no others, and few of them are asked for.
 func (m *Moment) stage(q int) {
 	for i, p := range m.block.Params {
 		x := spot{p, q}
-		if m.known(x) {
-			continue
-		}
-		if q == m.P.Hi {
+		switch {
+		case m.known(x):
+		case q == m.P.Hi:
 			m.set(x, m.symbol(m.e.F.Widths[p], symValue, p, q))
-		} else {
+		case m.past(x):
 			m.set(x, m.E(m.argument(i), q+1))
 		}
 	}
 	for i, in := range m.block.Insts {
-		if in.Dest < 0 {
+		x := spot{in.Dest, q}
+		if in.Dest < 0 || in.Op != api.OpConst && !m.Executed(i, q) && !m.past(x) {
 			continue
 		}
-		x := spot{in.Dest, q}
 		natural := in.Op == api.OpConst || !m.known(x)
 		if natural {
 			m.set(x, m.natural(i, in, q))
@@ -241,6 +242,23 @@ func (m *Moment) stage(q int) {
 			m.loads = append(m.loads, executed{in.Mem, m.E(in.Args[1], q), m.E(in.Args[0], q), m.E(in.Dest, q)})
 		}
 	}
+}
+
+// later returns the term of a value that has not been computed at the point.
+func (m *Moment) later(value, stage int) int {
+	x := spot{value, stage}
+	if m.block != nil && slices.Contains(m.stages, stage) {
+		if i, ok := m.e.inst[value]; ok && i < len(m.block.Insts) && m.block.Insts[i].Dest == value {
+			m.set(x, m.natural(i, m.block.Insts[i], stage))
+			return m.terms[x]
+		}
+		if i, ok := m.e.param[value]; ok && i < len(m.block.Params) && m.block.Params[i] == value && stage < m.P.Hi {
+			m.set(x, m.E(m.argument(i), stage+1))
+			return m.terms[x]
+		}
+	}
+	m.failed = true
+	return 0
 }
 
 // argument returns the argument for a parameter on the self edge.
@@ -267,11 +285,10 @@ func (m *Moment) known(x spot) bool {
 
 // E returns the term of a value in a stage.
 func (m *Moment) E(value, stage int) int {
-	t, ok := m.terms[spot{value, stage}]
-	if !ok {
-		m.failed = true
+	if t, ok := m.terms[spot{value, stage}]; ok {
+		return t
 	}
-	return t
+	return m.later(value, stage)
 }
 
 // Executed reports whether an instruction of an iteration in a stage is executed at the point.
