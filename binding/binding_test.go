@@ -133,3 +133,19 @@ func TestErrors(t *testing.T) {
 		t.Error(e)
 	}
 }
+
+func TestWrongFunctions(t *testing.T) {
+	f := api.Func{Name: "f", Widths: []int{8}, Rets: []int{8}, Blocks: []api.Block{{Params: []int{0, 7}, Term: api.Term{Kind: api.Return, Cond: -1, Rets: []int{0}}}}}
+	s := []api.Sched{{Depth: 1, Params: []int{0, 0}}}
+	if _, e := Bind(f, s); e != api.ErrForm {
+		t.Error(e)
+	}
+	if e := Check(f, s, api.Binding{Places: make([][]api.Place, 1)}); e != api.ErrForm {
+		t.Error(e)
+	}
+	f.Blocks[0].Params = []int{0}
+	s = []api.Sched{{Depth: 1 << 60, Params: []int{0}}}
+	if _, e := Bind(f, s); e != api.ErrForm {
+		t.Error(e)
+	}
+}

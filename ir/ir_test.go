@@ -196,3 +196,9 @@ func TestOperators(t *testing.T) {
 		}
 	}
 }
+
+func TestEmitWithoutFunction(t *testing.T) {
+	if v := Emit(nil, 0, api.Inst{Op: api.OpConst}, 8); v != -1 {
+		t.Error(v)
+	}
+}

@@ -113,3 +113,16 @@ return 2 6
 		t.Error("the load is read too early")
 	}
 }
+
+func TestLivesWithoutBounds(t *testing.T) {
+	far := []api.Life{{Value: 1, From: 3, To: 1<<63 - 1}, {Value: 2, From: 5, To: 2}, {Value: 3, From: 0, To: 4}}
+	if l := Spans(far, 7); len(l) > maxSpans {
+		t.Error(len(l))
+	}
+	if n := Pressure([]api.Life{{From: 0, To: 9}, {From: 3, To: 4}, {From: 6, To: 6}}, 4); n != 4 {
+		t.Error(n)
+	}
+	if n := Pressure([]api.Life{{Value: 7, From: 8, To: 1 << 40}}, 11); n != (1<<40-8)/11+1 {
+		t.Error(n)
+	}
+}

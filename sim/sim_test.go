@@ -114,3 +114,19 @@ func TestStep(t *testing.T) {
 		}
 	}
 }
+
+func TestForeignStates(t *testing.T) {
+	var m Machine
+	m.N.Streams = []api.Stream{{Width: 8}}
+	m.Order = []int{3}
+	var s State
+	if w := m.Wires(s, nil); w != nil {
+		t.Error(w)
+	}
+	if l, frozen := m.Step(&s, nil); l != nil || frozen {
+		t.Error(l, frozen)
+	}
+	if _, e := (Machine{N: api.Netlist{Cells: []api.Cell{{Kind: api.CellUnit, Num: 1 << 63}}}}).Start(api.Env{}); e != api.ErrArg {
+		t.Error(e)
+	}
+}

@@ -225,3 +225,16 @@ func TestErrors(t *testing.T) {
 }
 
 func second[T any](_ T, e api.Errno) api.Errno { return e }
+
+func TestNoTable(t *testing.T) {
+	f := api.Func{Name: "f", Blocks: []api.Block{{Term: api.Term{Kind: api.Return, Cond: -1}}}}
+	if _, e := Values(nil, f, 0, nil, nil, nil); e != api.ErrArg {
+		t.Error(e)
+	}
+	if _, e := Fresh(nil, api.Netlist{}, 0); e != api.ErrArg {
+		t.Error(e)
+	}
+	if _, e := Wires(nil, api.Netlist{}, State{}, nil); e != api.ErrArg {
+		t.Error(e)
+	}
+}
